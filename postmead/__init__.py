@@ -1,0 +1,1 @@
+"""Postmead: ropes between posts, and what every length is made of."""
