@@ -228,6 +228,14 @@ class TestWorth(unittest.TestCase):
         for one in some_sums():
             self.assertEqual(worth(one, more), worth(one, LENGTHS))
 
+    def test_one_letter_with_several_powers(self):
+        powers = (-3, -1, 1, 4)
+        one = [(((A, power), (B, -power)), power + 5) for power in powers]
+        self.assertTrue(is_one_form(one))
+        self.assertEqual(worth(one, LENGTHS), reckoned(one, LENGTHS))
+        falling = [(((A, 1), (B, 3)), 1), (((A, 2), (B, 1)), 2), (((A, 3), (B, -1)), 3)]
+        self.assertEqual(worth(falling, LENGTHS), reckoned(falling, LENGTHS))
+
     def test_powers_from_minus_1000_to_1000(self):
         for power in (1000, 999, 64, -64, -999, -1000):
             one = [(((A, power),), 1), (((B, -power),), -2)]
