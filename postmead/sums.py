@@ -3,11 +3,12 @@
 from postmead.errors import BadSum, NoLetter
 from postmead.figures import whole_read
 from postmead.parts import lowest
+from postmead.posts import pair_of
 
 
 def letter(a, b):
     """The sum of the letter of two unlike numbers, once, to the power one."""
-    return [((((min(a, b), max(a, b)), 1),), 1)]
+    return [(((pair_of(a, b), 1),), 1)]
 
 
 def sum_plus(one, other):
