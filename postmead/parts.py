@@ -5,6 +5,9 @@ from math import gcd
 from postmead.errors import NoFraction
 from postmead.figures import whole_read
 
+NOUGHT = (0, 1)
+ONE = (1, 1)
+
 
 def lowest(top, bottom):
     """The fraction of two whole numbers; NoFraction where the bottom is nought."""
@@ -37,6 +40,16 @@ def over(one, other):
     return lowest(one[0] * other[1], one[1] * other[0])
 
 
+def is_part(one):
+    """True where the tuple of two whole numbers is a fraction."""
+    return one[1] > 0 and gcd(one[0], one[1]) == 1
+
+
+def is_length(one):
+    """True where the tuple of two whole numbers is a fraction above nought."""
+    return one[0] > 0 and is_part(one)
+
+
 def smaller(one, other):
     """True where the first fraction is less than the second, else False."""
     return one[0] * other[1] < other[0] * one[1]
@@ -56,6 +69,6 @@ def part_read(line):
     bottom = whole_read(words[1])
     if top is None or bottom is None:
         raise NoFraction("a fraction has a number on each side of its stroke")
-    if bottom < 1 or gcd(top, bottom) != 1:
+    if not is_part((top, bottom)):
         raise NoFraction("the fraction is not in lowest terms")
     return (top, bottom)

@@ -1,14 +1,12 @@
 """Roads: ropes turned one behind the other, from cutting to cutting."""
 
 from postmead.cuts import new_rope, ties, turned
-from postmead.errors import NoPost
-from postmead.posts import pair_of
+from postmead.posts import need_post, pair_of
 
 
 def to_fan(n, cut, post):
     """A shortest road from the cutting to the fan of the post; NoPost where it is not there."""
-    if not 0 <= post < n:
-        raise NoPost("the post is not there")
+    need_post(n, post)
     return [old for old, _ in fan_turnings(n, cut, post)]
 
 

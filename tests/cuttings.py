@@ -57,3 +57,16 @@ def flipped(n, cut, rope):
     ]
     (new,) = laid
     return sorted(rest + [new])
+
+
+def zigzag(n):
+    """The cutting whose ropes go to and fro between the two halves of the ring."""
+    ropes = [(0, 2)] if n > 3 else []
+    low, high = 0, 2
+    while len(ropes) < n - 3:
+        if len(ropes) % 2:
+            low = (low - 1) % n
+        else:
+            high = high + 1
+        ropes.append((min(low, high), max(low, high)))
+    return sorted(ropes)

@@ -4,7 +4,8 @@ import unittest
 from fractions import Fraction
 
 from postmead.errors import NoFraction
-from postmead.parts import less, lowest, over, part_read, part_text, plus, smaller, times
+from postmead.parts import (
+    is_length, is_part, less, lowest, over, part_read, part_text, plus, smaller, times)
 
 FEW = range(-7, 8)
 BIG = 10 ** 40 + 7
@@ -156,6 +157,23 @@ class TestTexts(unittest.TestCase):
     def test_4000_figures_are_written(self):
         self.assertEqual(part_text((10 ** 3999, 1)), "1" + "0" * 3999 + "/1")
         self.assertEqual(part_text((-1, 10 ** 3999)), "-1/1" + "0" * 3999)
+
+
+class TestKindsOfPairs(unittest.TestCase):
+    def test_pairs_of_few_numbers(self):
+        for top in FEW:
+            for bottom in FEW:
+                with self.subTest(top, bottom=bottom):
+                    fraction = bottom > 0 and lowest(top, bottom) == (top, bottom)
+                    self.assertIs(is_part((top, bottom)), fraction)
+                    self.assertIs(is_length((top, bottom)), fraction and top > 0)
+
+    def test_numbers_of_any_size(self):
+        self.assertTrue(is_length((HUGE, HUGE + 1)))
+        self.assertTrue(is_part((-HUGE, 1)))
+        for pair in ((HUGE, HUGE), (HUGE, -1), (1, -HUGE), (0, HUGE)):
+            self.assertFalse(is_part(pair))
+            self.assertFalse(is_length(pair))
 
 
 if __name__ == "__main__":
