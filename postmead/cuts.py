@@ -86,3 +86,8 @@ def turned(n, cut, a, b):
     laid = new_rope(n, cut, a, b)
     old = pair_of(a, b)
     return sorted([rope for rope in cut if rope != old] + [laid])
+
+
+def ropes_among(n, pairs):
+    """The ropes of n posts among the pairs, rising."""
+    return sorted([(a, b) for a, b in pairs if is_rope(n, a, b)])

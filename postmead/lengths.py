@@ -31,8 +31,8 @@ def table(n, cut, lengths):
     for a, b in combinations(range(n), 2):
         reach(found, n, cut, a, b)
     return [
-        [NOUGHT if a == b else found[pair_of(a, b)] for b in range(n)]
-        for a in range(n)
+        [NOUGHT if post == place else found[pair_of(post, place)] for place in range(n)]
+        for post in range(n)
     ]
 
 
